@@ -19,9 +19,14 @@ def is_name(value):
     return value[0] in LETTERS and all([sign in LETTERS + DIGITS for sign in value])
 
 
+def is_whole(value):
+    """Whether the plain value is an integer; True and False are none."""
+    return isinstance(value, int) and not isinstance(value, bool)
+
+
 def is_place(value):
     """Whether the plain value is an integer that may be a place."""
-    return isinstance(value, int) and not isinstance(value, bool) and 0 <= value <= LAST_PLACE
+    return is_whole(value) and 0 <= value <= LAST_PLACE
 
 
 def is_place_pair(value):
@@ -148,23 +153,11 @@ PLACE_FAULTS = {
 }
 
 
-def _list_fault(arrows, leaves):
-    """The first fault of the items of the two lists, or None."""
-    for word in LIST_FAULTS:
-        finder = LIST_FAULTS[word]
-        found = finder(arrows, leaves)
-        if found:
-            return word, found[0]
-    return None
-
-
-def _place_fault(arrows, leaves):
-    """The first fault of the places, or None, if the items of the two lists are good."""
-    mothers, children = relatives(arrows, leaves)
-    labelled = [leaf[0] for leaf in leaves]
-    for word in PLACE_FAULTS:
-        finder = PLACE_FAULTS[word]
-        found = finder(mothers, children, labelled)
+def first_fault(finders, *given):
+    """The first word of the table whose function finds something, with the first thing that it finds, or None."""
+    for word in finders:
+        finder = finders[word]
+        found = finder(*given)
         if found:
             return word, found[0]
     return None
@@ -172,7 +165,8 @@ def _place_fault(arrows, leaves):
 
 def net_fault(arrows, leaves):
     """None if the two lists give a net, otherwise the first fault as a pair (word, at)."""
-    fault = _list_fault(arrows, leaves)
+    fault = first_fault(dict(LIST_FAULTS), arrows, leaves)
     if fault is not None:
         return fault
-    return _place_fault(arrows, leaves)
+    mothers, children = relatives(arrows, leaves)
+    return first_fault(dict(PLACE_FAULTS), mothers, children, [leaf[0] for leaf in leaves])

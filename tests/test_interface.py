@@ -1,56 +1,54 @@
 """The names and arguments of the interface, and that nothing else is bound or kept: points 1 and 2."""
 
 import ast
+import importlib
 import inspect
 import os
 import subprocess
 import sys
 import unittest
 
-import levelgifts.nets
-import levelgifts.newick
-import levelgifts.shape
 from levelgifts.nets import Net
 
 ROOT = os.path.dirname(os.path.dirname(os.path.abspath(__file__)))
 
+# What the interface lists, by file, as it is written there.
 FUNCTIONS = {
-    "shape": {"is_name": ["value"], "net_fault": ["arrows", "leaves"]},
-    "nets": {
-        "is_match": ["first", "second", "paper"],
-        "invert_match": ["match"],
-        "chain_matches": ["one", "other"],
-        "renumber": ["net", "paper"],
-    },
-    "newick": {"read_newick": ["text"], "write_newick": ["net"]},
+    "shape": ["is_name(value)", "net_fault(arrows, leaves)"],
+    "nets": ["is_match(first, second, paper)", "invert_match(match)", "chain_matches(one, other)", "renumber(net, paper)"],
+    "newick": ["read_newick(text)", "write_newick(net)"],
+    "pairs": ["pair_word(net, pair)", "pairs(net)", "pair_places(net, pair)"],
+    "pluck": [
+        "pluck(net, pair)", "put_back(net, pair)", "rests(net, row)", "pluck_all(net, row)", "build(row, *, last)",
+        "least_row(net)", "can_be_plucked(net)", "is_row(net, paper)", "all_rows(net, *, limit=20)",
+    ],
+    "momentjudge": ["moment_fault(net, paper)", "is_moments(net, paper)"],
+    "moments": [
+        "gifts(net, moments)", "tree_arrows(net, moments)", "tree_leaves(net, moments, place)",
+        "live_at(net, moments, moment)", "squeeze(net, moments)", "all_moments(net, *, ranks=7, limit=20)",
+    ],
 }
-METHODS = {
-    "__init__": ["arrows", "leaves"],
-    "places": [], "inner": [], "splits": [], "mixings": [], "arrows": [], "leaves": [], "names": [], "downward": [],
-    "mothers": ["place"], "children": ["place"], "kind_of": ["place"], "name_of": ["place"], "place_of": ["name"],
-}
-
-
-def parameters(function):
-    """The names of the parameters; each of them may be passed by position or by its name."""
-    found = inspect.signature(function).parameters.values()
-    assert all(one.kind is one.POSITIONAL_OR_KEYWORD and one.default is one.empty for one in found)
-    return [one.name for one in found]
+METHODS = [
+    "__init__(self, arrows, leaves)", "places(self)", "inner(self)", "splits(self)", "mixings(self)", "arrows(self)",
+    "leaves(self)", "names(self)", "downward(self)", "mothers(self, place)", "children(self, place)",
+    "kind_of(self, place)", "name_of(self, place)", "place_of(self, name)",
+]
 
 
 class Interface(unittest.TestCase):
     def test_functions(self):
-        for file in FUNCTIONS:
-            module = getattr(levelgifts, file)
-            for name, wanted in FUNCTIONS[file].items():
-                function = getattr(module, name)
-                self.assertEqual(parameters(function), wanted, name)
+        for file, lines in FUNCTIONS.items():
+            module = importlib.import_module(f"levelgifts.{file}")
+            for line in lines:
+                function = vars(module)[line.split("(")[0]]
+                self.assertEqual(function.__name__ + str(inspect.signature(function)), line)
                 self.assertEqual(function.__module__, f"levelgifts.{file}")
 
     def test_methods_stand_in_the_class_itself(self):
         self.assertEqual(Net.__module__, "levelgifts.nets")
-        for name, wanted in METHODS.items():
-            self.assertEqual(parameters(vars(Net)[name])[1:], wanted, name)
+        for line in METHODS:
+            method = vars(Net)[line.split("(")[0]]
+            self.assertEqual(method.__name__ + str(inspect.signature(method)), line)
         self.assertIsInstance(vars(Net)["root"], property)
         for name in ("__eq__", "__contains__", "__iter__"):
             self.assertIn(name, vars(Net))
@@ -63,15 +61,20 @@ class Interface(unittest.TestCase):
         self.assertEqual(done.stdout.strip(), "[]")
 
     def test_each_file_can_be_imported_first(self):
-        for file in ("faults", "shape", "nets", "newick"):
+        for file in ["faults", *FUNCTIONS]:
             code = f"import levelgifts.{file}"
             subprocess.run([sys.executable, "-B", "-W", "error", "-c", code], cwd=ROOT, check=True)
 
     def test_equal_answers_in_other_processes(self):
         code = (
             "from levelgifts.newick import read_newick, write_newick\n"
+            "from levelgifts.moments import all_moments\n"
+            "from levelgifts.pairs import pairs\n"
+            "from levelgifts.pluck import all_rows, least_row, pluck\n"
             "net = read_newick('((((zz,a))#1,(#1)#2),#2);')\n"
             "print(net.arrows(), net.leaves(), list(net), net.downward(), write_newick(net))\n"
+            "net = read_newick('(((a,b),(c)#1),(#1,d));')\n"
+            "print(pairs(net), least_row(net)[0], all_rows(net), pluck(net, ('c', 'd')).arrows(), all_moments(net))\n"
         )
         found = set()
         for seed in ("0", "1", "2", "3"):

@@ -50,6 +50,11 @@ def nodes(kind):
     return [(name, node) for name, tree in TREES.items() for node in ast.walk(tree) if isinstance(node, kind)]
 
 
+def rows_of(tree, kind):
+    """All nodes of the kind within the node."""
+    return [node for node in ast.walk(tree) if isinstance(node, kind)]
+
+
 def own_methods():
     """The names of all methods of the package."""
     return {row.name for name, node in nodes(ast.ClassDef) for row in node.body if isinstance(row, ast.FunctionDef)}
@@ -191,6 +196,25 @@ class Constructs(unittest.TestCase):
             for part in node.args:
                 if isinstance(part, ast.Call) and isinstance(part.func, ast.Name) and part.func.id == "set":
                     self.assertIn(getattr(node.func, "id", None), ("sorted", "len"), name)
+
+    def test_generators_are_iterated_at_once(self):
+        yields = [(name, node) for name, node in nodes(ast.FunctionDef) if any(rows_of(node, (ast.Yield, ast.YieldFrom)))]
+        words = [node.name for name, node in yields]
+        every = [node.name for name, node in nodes(ast.FunctionDef)]
+        self.assertTrue(all(every.count(word) == 1 and word not in METHODS for word in words))
+        for name, node in yields:
+            for block in rows_of(node, (ast.Try, ast.With)):
+                self.assertEqual(rows_of(block, (ast.Yield, ast.YieldFrom)), [], node.name)
+        iterated = [node.iter for name, node in nodes((ast.For, ast.comprehension))]
+        iterated += [node.value for name, node in nodes(ast.YieldFrom)]
+        for name, node in nodes(ast.Call):
+            if isinstance(node.func, ast.Name) and node.func.id in ("list", "tuple", "enumerate", "zip"):
+                iterated += node.args
+        for name, node in nodes(ast.Name):
+            if node.id in words:
+                calls = [call for call in iterated if isinstance(call, ast.Call) and call.func is node]
+                self.assertEqual(len(calls), 1, node.id)
+                self.assertTrue(all(isinstance(part, (ast.Name, ast.Attribute, ast.Constant)) for part in calls[0].args))
 
     def test_errors_are_created_on_the_spot(self):
         for name, node in nodes(ast.Raise):
