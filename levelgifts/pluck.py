@@ -135,13 +135,18 @@ def can_be_plucked(net):
 
 def is_row(net, paper):
     """Whether the paper is a full row of the net."""
+    rest = rest_of_paper(net, paper)
+    return rest is not None and is_one_place(rest)
+
+
+def rest_of_paper(net, paper):
+    """The rest of the row, or None if the plain value is no row that can be followed in the net."""
     if not isinstance(paper, list) or not all([is_name_pair(pair) for pair in paper]):
-        return False
+        return None
     try:
-        rest = pluck_all(net, paper)
+        return pluck_all(net, paper)
     except BadRow:
-        return False
-    return is_one_place(rest)
+        return None
 
 
 def all_rows(net, *, limit=20):

@@ -24,6 +24,15 @@ def is_whole(value):
     return isinstance(value, int) and not isinstance(value, bool)
 
 
+def same_value(value, other):
+    """Whether the two plain values are equal, where True and False are no integers, at every depth."""
+    if isinstance(value, (list, tuple)) and isinstance(other, (list, tuple)):
+        if isinstance(value, list) != isinstance(other, list) or len(value) != len(other):
+            return False
+        return all([same_value(item, beside) for item, beside in zip(value, other)])
+    return isinstance(value, bool) == isinstance(other, bool) and value == other
+
+
 def is_place(value):
     """Whether the plain value is an integer that may be a place."""
     return is_whole(value) and 0 <= value <= LAST_PLACE

@@ -27,6 +27,19 @@ FUNCTIONS = {
         "gifts(net, moments)", "tree_arrows(net, moments)", "tree_leaves(net, moments, place)",
         "live_at(net, moments, moment)", "squeeze(net, moments)", "all_moments(net, *, ranks=7, limit=20)",
     ],
+    "roads": ["row_of_moments(net, moments)", "moments_of_row(net, row)"],
+    "knots": [
+        "knot_rule(net, members, place)", "is_knot(net, paper)", "greatest_knot(net, *, members=None)", "knot_core(net)",
+    ],
+    "stuck": [
+        "is_stuck(net)", "stuck_rest(net)", "first_moments(net)", "verdict(net)", "is_verdict(net, paper)",
+        "find_match(first, second)", "alike(first, second)",
+    ],
+    "profiles": [
+        "ways(net, place)", "profile(net)", "is_stack_free(net)", "is_profile_of(net, paper)",
+        "profile_gap(first, second)",
+    ],
+    "fromprofile": ["row_from_profile(paper)", "net_from_profile(paper)"],
 }
 METHODS = [
     "__init__(self, arrows, leaves)", "places(self)", "inner(self)", "splits(self)", "mixings(self)", "arrows(self)",
@@ -71,10 +84,16 @@ class Interface(unittest.TestCase):
             "from levelgifts.moments import all_moments\n"
             "from levelgifts.pairs import pairs\n"
             "from levelgifts.pluck import all_rows, least_row, pluck\n"
+            "from levelgifts.knots import greatest_knot, knot_core\n"
+            "from levelgifts.profiles import profile\n"
+            "from levelgifts.stuck import find_match, verdict\n"
             "net = read_newick('((((zz,a))#1,(#1)#2),#2);')\n"
             "print(net.arrows(), net.leaves(), list(net), net.downward(), write_newick(net))\n"
             "net = read_newick('(((a,b),(c)#1),(#1,d));')\n"
             "print(pairs(net), least_row(net)[0], all_rows(net), pluck(net, ('c', 'd')).arrows(), all_moments(net))\n"
+            "print(verdict(net), profile(net), find_match(net, read_newick('((d,#1),((c)#1,(b,a)));')))\n"
+            "net = read_newick('((((a)#1,(b)#2),(#1,#2)),(((c)#3,(d)#4),(#3,#4)));')\n"
+            "print(verdict(net), greatest_knot(net), knot_core(net), find_match(net, net))\n"
         )
         found = set()
         for seed in ("0", "1", "2", "3"):
