@@ -2,7 +2,7 @@
 
 from levelgifts.faults import BadValue, NoPlace, TooMany
 from levelgifts.momentjudge import is_moments, times_of
-from levelgifts.shape import places_below
+from levelgifts.nets import names_reached
 
 MOST_RANKS = 7
 MOST_PAPERS = 60
@@ -29,8 +29,7 @@ def tree_leaves(net, moments, place):
     children = {upper: [] for upper in places}
     for mother, child in tree_arrows(net, moments):
         children[mother].append(child)
-    reached = [place] + places_below(place, children)
-    return sorted([net.name_of(lower) for lower in reached if net.kind_of(lower) == "leaf"])
+    return names_reached(net, place, children)
 
 
 def live_at(net, moments, moment):

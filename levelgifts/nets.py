@@ -1,7 +1,7 @@
 """Net objects, matches of two nets, and new numbers for the places of a net."""
 
 from levelgifts.faults import BadNet, BadPaper, NoLeaf, NoPlace
-from levelgifts.shape import is_place_pair, net_fault, relatives
+from levelgifts.shape import is_place_pair, net_fault, places_below, relatives
 
 # The kind of a place with no child, with one and with two.
 KIND_BY_CHILDREN = ("leaf", "mixing", "split")
@@ -113,6 +113,12 @@ class Net:
         """Raises the error that is due if the integer is no place of the net."""
         if place not in self._children:
             raise NoPlace(place)
+
+
+def names_reached(net, place, children):
+    """The ascending list of the names of the leaves that are the place or are reached from it by the children."""
+    reached = [place] + places_below(place, children)
+    return sorted([net.name_of(lower) for lower in reached if net.kind_of(lower) == "leaf"])
 
 
 def is_match(first, second, paper):

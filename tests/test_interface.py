@@ -8,8 +8,6 @@ import subprocess
 import sys
 import unittest
 
-from levelgifts.nets import Net
-
 ROOT = os.path.dirname(os.path.dirname(os.path.abspath(__file__)))
 
 # What the interface lists, by file, as it is written there.
@@ -40,12 +38,31 @@ FUNCTIONS = {
         "profile_gap(first, second)",
     ],
     "fromprofile": ["row_from_profile(paper)", "net_from_profile(paper)"],
+    "kinds": [
+        "holds(net, kind)", "kinds_of(net)", "inside(first, second)", "parting_net(first, second)", "blobs(net)",
+        "level(net)",
+    ],
+    "treebased": [
+        "is_choice(net, paper)", "is_support(net, paper)", "is_crowd(net, paper)", "find_support(net)", "find_crowd(net)",
+        "support_of_moments(net, moments)",
+    ],
+    "clusters": ["cluster_of(net, place)", "hard_clusters(net)"],
+    "trees": [
+        "is_tree(value)", "tree_text(tree)", "net_of_tree(tree)", "tree_of_net(net)", "read_tree(text)", "tree_names(tree)",
+        "tree_clusters(tree)", "tree_from_clusters(paper)", "restrict(tree, names)", "outer_of(tree, a, b, c)",
+    ],
 }
-METHODS = [
-    "__init__(self, arrows, leaves)", "places(self)", "inner(self)", "splits(self)", "mixings(self)", "arrows(self)",
-    "leaves(self)", "names(self)", "downward(self)", "mothers(self, place)", "children(self, place)",
-    "kind_of(self, place)", "name_of(self, place)", "place_of(self, name)",
-]
+# The classes: their file, their methods, their properties, and the signs that they have.
+CLASSES = {
+    "Net": ("nets", [
+        "__init__(self, arrows, leaves)", "places(self)", "inner(self)", "splits(self)", "mixings(self)", "arrows(self)",
+        "leaves(self)", "names(self)", "downward(self)", "mothers(self, place)", "children(self, place)",
+        "kind_of(self, place)", "name_of(self, place)", "place_of(self, name)",
+    ], ["root"], ["__eq__", "__contains__", "__iter__"]),
+    "Cluster": ("clusters", [
+        "__init__(self, names)", "names(self)", "inside_of(self, other)", "fits(self, other)",
+    ], ["size"], ["__and__", "__or__", "__sub__", "__eq__", "__contains__", "__bool__", "__iter__"]),
+}
 
 
 class Interface(unittest.TestCase):
@@ -58,13 +75,16 @@ class Interface(unittest.TestCase):
                 self.assertEqual(function.__module__, f"levelgifts.{file}")
 
     def test_methods_stand_in_the_class_itself(self):
-        self.assertEqual(Net.__module__, "levelgifts.nets")
-        for line in METHODS:
-            method = vars(Net)[line.split("(")[0]]
-            self.assertEqual(method.__name__ + str(inspect.signature(method)), line)
-        self.assertIsInstance(vars(Net)["root"], property)
-        for name in ("__eq__", "__contains__", "__iter__"):
-            self.assertIn(name, vars(Net))
+        for name, (file, lines, properties, signs) in CLASSES.items():
+            made = vars(importlib.import_module(f"levelgifts.{file}"))[name]
+            self.assertEqual(made.__module__, f"levelgifts.{file}")
+            for line in lines:
+                method = vars(made)[line.split("(")[0]]
+                self.assertEqual(method.__name__ + str(inspect.signature(method)), line)
+            for word in properties:
+                self.assertIsInstance(vars(made)[word], property)
+            for sign in signs:
+                self.assertIn(sign, vars(made))
 
     def test_the_package_itself_binds_no_names(self):
         with open(os.path.join(ROOT, "levelgifts", "__init__.py"), encoding="utf-8") as file:
@@ -86,6 +106,10 @@ class Interface(unittest.TestCase):
             "from levelgifts.pluck import all_rows, least_row, pluck\n"
             "from levelgifts.knots import greatest_knot, knot_core\n"
             "from levelgifts.profiles import profile\n"
+            "from levelgifts.clusters import Cluster, hard_clusters\n"
+            "from levelgifts.kinds import blobs, kinds_of, parting_net\n"
+            "from levelgifts.treebased import find_crowd, find_support\n"
+            "from levelgifts.trees import tree_clusters\n"
             "from levelgifts.stuck import find_match, verdict\n"
             "net = read_newick('((((zz,a))#1,(#1)#2),#2);')\n"
             "print(net.arrows(), net.leaves(), list(net), net.downward(), write_newick(net))\n"
@@ -94,6 +118,9 @@ class Interface(unittest.TestCase):
             "print(verdict(net), profile(net), find_match(net, read_newick('((d,#1),((c)#1,(b,a)));')))\n"
             "net = read_newick('((((a)#1,(b)#2),(#1,#2)),(((c)#3,(d)#4),(#3,#4)));')\n"
             "print(verdict(net), greatest_knot(net), knot_core(net), find_match(net, net))\n"
+            "print(blobs(net), kinds_of(net), find_support(net), hard_clusters(net), tree_clusters((('a', 'c'), 'b')))\n"
+            "print(list(Cluster(['b', 'a1', 'c', 'z'])), parting_net('pluckable', 'tree'))\n"
+            "print(find_crowd(read_newick('((((a)#3)#1,(#3)#2),(#1,#2));')))\n"
         )
         found = set()
         for seed in ("0", "1", "2", "3"):
