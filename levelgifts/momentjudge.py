@@ -1,17 +1,12 @@
 """Whether moments fit a net, and what is wrong with those that do not."""
 
 from levelgifts.faults import BadMoments
-from levelgifts.shape import first_fault, is_whole
-
-
-def _is_timed_place(value):
-    """Whether the plain value is a pair of integers."""
-    return isinstance(value, tuple) and len(value) == 2 and is_whole(value[0]) and is_whole(value[1])
+from levelgifts.shape import first_fault, is_whole_pair
 
 
 def _has_form(net, paper):
     """Whether the paper gives each place of the net one moment, in ascending order."""
-    if not isinstance(paper, list) or not all([_is_timed_place(pair) for pair in paper]):
+    if not isinstance(paper, list) or not all([is_whole_pair(pair) for pair in paper]):
         return False
     return [place for place, moment in paper] == net.places()
 

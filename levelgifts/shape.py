@@ -38,6 +38,11 @@ def is_place(value):
     return is_whole(value) and 0 <= value <= LAST_PLACE
 
 
+def is_whole_pair(value):
+    """Whether the plain value is a pair of integers."""
+    return isinstance(value, tuple) and len(value) == 2 and is_whole(value[0]) and is_whole(value[1])
+
+
 def is_place_pair(value):
     """Whether the plain value is a pair of integers that may be places."""
     return isinstance(value, tuple) and len(value) == 2 and is_place(value[0]) and is_place(value[1])

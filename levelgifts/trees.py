@@ -1,19 +1,19 @@
 """Trees as values: a name, or a tuple of two trees, the one with the least name first."""
 
-from levelgifts.faults import BadPaper, BadTree, BadValue, NoLeaf
+from levelgifts.faults import BadPaper, BadTree, BadValue, NoLeaf, TooMany, Unlike
 from levelgifts.newick import read_newick
 from levelgifts.shape import MOST_LEAVES, is_name, same_value
 
 
 def is_tree(value):
     """Whether the plain value is a tree."""
-    names = _names_within(value)
+    names = names_within(value)
     return names is not None and len(names) <= MOST_LEAVES
 
 
 def tree_text(tree):
     """The text of the tree."""
-    _demand_tree(tree)
+    demand_tree(tree)
     return _node_text(tree) + ";"
 
 
@@ -36,14 +36,14 @@ def read_tree(text):
 
 def tree_names(tree):
     """The ascending list of the names."""
-    _demand_tree(tree)
-    return sorted(_names_within(tree))
+    demand_tree(tree)
+    return sorted(names_within(tree))
 
 
 def tree_clusters(tree):
     """The ascending list of the clusters of the tree, as tuples."""
-    _demand_tree(tree)
-    return sorted([tuple(sorted(_names_within(part))) for part in _parts(tree)])
+    demand_tree(tree)
+    return sorted([tuple(sorted(names_within(part))) for part in _parts(tree)])
 
 
 def tree_from_clusters(paper):
@@ -58,7 +58,7 @@ def tree_from_clusters(paper):
 
 def restrict(tree, names):
     """The tree without the names that are not in the list."""
-    _demand_tree(tree)
+    demand_tree(tree)
     if not names:
         raise BadValue([])
     _demand_names(tree, names)
@@ -67,7 +67,7 @@ def restrict(tree, names):
 
 def outer_of(tree, a, b, c):
     """The one of the three names that is not in the smallest cluster with the other two."""
-    _demand_tree(tree)
+    demand_tree(tree)
     if b == a:
         raise BadValue(b)
     if c in (a, b):
@@ -77,27 +77,43 @@ def outer_of(tree, a, b, c):
     return left if isinstance(right, tuple) else right
 
 
-def _demand_tree(value):
+def demand_tree(value):
     """Raises the error that is due if the plain value is no tree."""
     if not is_tree(value):
         raise BadTree("form")
 
 
+def demand_like_trees(trees, *, bounds=(MOST_LEAVES, MOST_LEAVES)):
+    """Raises the first error that is due if the list is not two or three trees on the same names, and on few enough."""
+    for tree in trees:
+        demand_tree(tree)
+    if len(trees) not in (2, 3):
+        raise BadValue(len(trees))
+    named = [tree_names(tree) for tree in trees]
+    for name in sorted(set([within for names in named for within in names])):
+        if not all([name in names for names in named]):
+            raise Unlike(name)
+    many = len(named[0])
+    # The first bound is that for two trees, the second one that for three.
+    if many > bounds[len(trees) - 2]:
+        raise TooMany("leaves", many)
+
+
 def _demand_names(tree, names):
     """Raises the error that is due if one of the strings is no name of the tree."""
-    within = _names_within(tree)
+    within = names_within(tree)
     for name in names:
         if name not in within:
             raise NoLeaf(name)
 
 
-def _names_within(value):
+def names_within(value):
     """The names within the tree, from left to right, or None if the plain value has not the form of a tree."""
     if is_name(value):
         return [value]
     if not isinstance(value, tuple) or len(value) != 2:
         return None
-    left, right = [_names_within(part) for part in value]
+    left, right = [names_within(part) for part in value]
     if left is None or right is None or min(left) >= min(right):
         return None
     return None if any([name in left for name in right]) else left + right
@@ -117,17 +133,17 @@ def _tree_below(net, place):
     if name is not None:
         return name
     one, other = [_tree_below(net, child) for child in net.children(place)]
-    return _joined(one, other)
+    return joined(one, other)
 
 
-def _joined(one, other):
+def joined(one, other):
     """The tree of the two trees."""
     return (one, other) if _first_name(one) < _first_name(other) else (other, one)
 
 
 def _first_name(tree):
     """The least name of the tree, which stands first in it."""
-    return _names_within(tree)[0]
+    return names_within(tree)[0]
 
 
 def _parts(tree):
@@ -145,7 +161,7 @@ def _restricted(tree, names):
     left, right = [_restricted(part, names) for part in tree]
     if left is None or right is None:
         return right if left is None else left
-    return _joined(left, right)
+    return joined(left, right)
 
 
 def _are_clusters(paper):
