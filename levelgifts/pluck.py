@@ -15,13 +15,13 @@ def pluck(net, pair):
     plucked, stays = [net.place_of(name) for name in pair]
     added = [(above, stays) for above in net.mothers(gone[0])]
     if len(gone) == 1:
-        return _changed(net, gone + [plucked], added)
+        return changed(net, gone + [plucked], added)
     split, mixing = gone
     added.extend([(other, plucked) for other in net.mothers(mixing) if other != split])
-    return _changed(net, gone, added)
+    return changed(net, gone, added)
 
 
-def _changed(net, gone, added):
+def changed(net, gone, added):
     """The net without the places that are gone and their arrows, and with the added arrows."""
     kept = [(mother, child) for mother, child in net.arrows() if mother not in gone and child not in gone]
     return Net(kept + added, [(place, name) for place, name in net.leaves() if place not in gone])
@@ -46,7 +46,7 @@ def _with_leaf(net, pair):
     if len(net.leaves()) == MOST_LEAVES:
         raise TooMany("leaves", MOST_LEAVES + 1)
     name, stays = pair
-    split, leaf = _free_numbers(net)
+    split, leaf = free_numbers(net)
     arrows = _put_above(net.arrows(), split, net.place_of(stays))
     return Net(arrows + [(split, leaf)], net.leaves() + [(leaf, name)])
 
@@ -56,7 +56,7 @@ def _with_mixing(net, pair):
     if len(net.mixings()) == MOST_MIXINGS:
         raise TooMany("mixings", MOST_MIXINGS + 1)
     freed, stays = [net.place_of(name) for name in pair]
-    split, mixing = _free_numbers(net)
+    split, mixing = free_numbers(net)
     arrows = _put_above(_put_above(net.arrows(), split, stays), mixing, freed)
     return Net(arrows + [(split, mixing)], net.leaves())
 
@@ -66,7 +66,7 @@ def _put_above(arrows, new, leaf):
     return [(mother, new if child == leaf else child) for mother, child in arrows] + [(new, leaf)]
 
 
-def _free_numbers(net):
+def free_numbers(net):
     """The two least numbers that are no places of the net, ascending."""
     taken = net.places()
     free = [number for number in range(len(taken) + 2) if number not in taken]

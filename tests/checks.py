@@ -2,13 +2,16 @@
 
 import unittest
 
+from levelgifts.clusters import Cluster
 from levelgifts.nets import Net
 
 
 def shown(value):
-    """A text that tells the value and the kinds of all that stands in it. A net is told by its two lists."""
+    """A text that tells the value and the kinds of all that stands in it. Nets and clusters are told by their lists."""
     if isinstance(value, Net):
         return f"Net({value.arrows()}, {value.leaves()})"
+    if isinstance(value, Cluster):
+        return f"Cluster({value.names()})"
     if type(value) in (list, tuple):
         return f"{type(value).__name__}({', '.join(shown(item) for item in value)})"
     if type(value) is dict:

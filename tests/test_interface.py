@@ -51,6 +51,31 @@ FUNCTIONS = {
         "is_tree(value)", "tree_text(tree)", "net_of_tree(tree)", "tree_of_net(net)", "read_tree(text)", "tree_names(tree)",
         "tree_clusters(tree)", "tree_from_clusters(paper)", "restrict(tree, names)", "outer_of(tree, a, b, c)",
     ],
+    "shown": [
+        "choices(net)", "tree_by_choice(net, paper)", "shown_trees(net)", "count_shown(net)", "find_showing(net, tree)",
+        "is_showing(net, tree, paper)", "soft_clusters(net)",
+    ],
+    "hybrid": [
+        "pluck_tree(tree, pair)", "is_common_row(trees, paper)", "net_of_common_row(trees, row)", "common_row(trees)",
+        "least_gifts(trees)",
+    ],
+    "quarrels": [
+        "quarrels(first, second)", "span(tree, triple)", "is_bound_paper(first, second, paper)",
+        "bound_paper(first, second)",
+    ],
+    "reconcile": [
+        "is_gene_tree(value)", "gene_nodes(gene)", "history_counts(net, moments, gene, paper)",
+        "is_history(net, moments, gene, paper)", "least_price(net, moments, gene, *, prices=(2, 3, 1))",
+        "find_history(net, moments, gene, *, prices=(2, 3, 1))", "price_table(net, moments, gene, *, prices=(2, 3, 1))",
+        "is_floor(net, moments, gene, paper, *, prices=(2, 3, 1))",
+    ],
+    "drawnet": [
+        "is_order(net, moments, paper)", "all_orders(net, moments)", "best_order(net, moments)",
+        "crossings(net, moments, order)", "layers(net, moments, order)", "draw(net, moments, order)",
+    ],
+    "edits": ["edit_net(net, edit)", "edit_all(net, edits)", "edit_effect(net, edit)"],
+    "judge": ["is_paper(word, net, paper)", "papers_for(net)", "judge_all(net, papers)"],
+    "script": ["run_script(text)", "end_net(text)"],
 }
 # The classes: their file, their methods, their properties, and the signs that they have.
 CLASSES = {
@@ -62,6 +87,10 @@ CLASSES = {
     "Cluster": ("clusters", [
         "__init__(self, names)", "names(self)", "inside_of(self, other)", "fits(self, other)",
     ], ["size"], ["__and__", "__or__", "__sub__", "__eq__", "__contains__", "__bool__", "__iter__"]),
+    "Keeper": ("keep", [
+        "__init__(self, net)", "apply(self, edit)", "apply_all(self, edits)", "undo(self)", "effect(self, edit)",
+        "answer(self)",
+    ], ["net", "steps"], ["__iter__", "__enter__", "__exit__"]),
 }
 
 
@@ -94,7 +123,7 @@ class Interface(unittest.TestCase):
         self.assertEqual(done.stdout.strip(), "[]")
 
     def test_each_file_can_be_imported_first(self):
-        for file in ["faults", *FUNCTIONS]:
+        for file in ["faults", "keep", *FUNCTIONS]:
             code = f"import levelgifts.{file}"
             subprocess.run([sys.executable, "-B", "-W", "error", "-c", code], cwd=ROOT, check=True)
 
@@ -121,6 +150,22 @@ class Interface(unittest.TestCase):
             "print(blobs(net), kinds_of(net), find_support(net), hard_clusters(net), tree_clusters((('a', 'c'), 'b')))\n"
             "print(list(Cluster(['b', 'a1', 'c', 'z'])), parting_net('pluckable', 'tree'))\n"
             "print(find_crowd(read_newick('((((a)#3)#1,(#3)#2),(#1,#2));')))\n"
+            "from levelgifts.shown import find_showing, shown_trees, soft_clusters\n"
+            "from levelgifts.hybrid import common_row\n"
+            "from levelgifts.quarrels import bound_paper\n"
+            "from levelgifts.reconcile import find_history, price_table\n"
+            "from levelgifts.stuck import first_moments\n"
+            "print(shown_trees(net), soft_clusters(net), find_showing(net, (('a', 'b'), ('c', 'd'))))\n"
+            "trees = [(('a', 'b'), ('c', 'd')), ((('a', 'c'), 'b'), 'd')]\n"
+            "print(common_row(trees), bound_paper(*trees))\n"
+            "net = read_newick('(((a,b),(c)#1),(#1,d));')\n"
+            "moments = first_moments(net)\n"
+            "print(find_history(net, moments, (('c', 'a'), 'c')), price_table(net, moments, (('c', 'a'), 'c')))\n"
+            "from levelgifts.drawnet import all_orders, best_order, draw\n"
+            "from levelgifts.judge import papers_for\n"
+            "from levelgifts.script import run_script\n"
+            "print(all_orders(net, moments), draw(net, moments, best_order(net, moments)), papers_for(net))\n"
+            "print(run_script('net (a,b);\\ntie 0 1 0 2\\nkinds\\nhang z z\\nhang z\\nrow'))\n"
         )
         found = set()
         for seed in ("0", "1", "2", "3"):

@@ -74,6 +74,7 @@ def inner_names(tree):
     """The names of the parameters and of the variables within functions."""
     top = [row.targets[0] for row in tree.body if isinstance(row, ast.Assign)]
     found = {node.arg for node in ast.walk(tree) if isinstance(node, ast.arg)}
+    found |= {node.name for node in ast.walk(tree) if isinstance(node, ast.ExceptHandler) and node.name is not None}
     stored = [node for node in ast.walk(tree) if isinstance(node, ast.Name) and isinstance(node.ctx, ast.Store)]
     return found | {node.id for node in stored if node not in top}
 
@@ -167,7 +168,9 @@ class Names(unittest.TestCase):
         stored = {node.attr for name, node in nodes(ast.Attribute) if isinstance(node.ctx, ast.Store)}
         for name, node in nodes(ast.Attribute):
             self.assertNotIn(node.attr, NOWHERE)
-            self.assertTrue(node.attr in stored or node.attr in METHODS or node.attr in own_methods(), node.attr)
+            # L8 lets `x.__class__.__name__` be read.
+            known = stored | METHODS | own_methods() | {"__class__", "__name__"}
+            self.assertIn(node.attr, known)
 
     def test_builtins(self):
         for name, tree in TREES.items():
@@ -221,3 +224,43 @@ class Constructs(unittest.TestCase):
             self.assertTrue(node.exc is None or isinstance(node.exc, ast.Call), name)
         for name, node in nodes(ast.ExceptHandler):
             self.assertIsNotNone(node.type, name)
+
+    def test_only_own_errors_are_caught(self):
+        own = top_names(TREES["faults.py"])
+        for name, node in nodes(ast.ExceptHandler):
+            kinds = node.type.elts if isinstance(node.type, ast.Tuple) else [node.type]
+            self.assertTrue(all(kind.id in own for kind in kinds), name)
+            # A caught error is asked for the name of its class alone.
+            used = [part for part in rows_of(node, ast.Name) if part.id == node.name]
+            asked = [part.value.value for part in rows_of(node, ast.Attribute) if part.attr == "__name__"]
+            self.assertTrue(all(part in asked for part in used), name)
+
+    def test_names_of_classes(self):
+        for name, node in nodes(ast.Attribute):
+            if node.attr == "__name__":
+                self.assertEqual(node.value.attr, "__class__", name)
+                self.assertIsInstance(node.value.value, (ast.Name, ast.Attribute), name)
+        classes = [node for name, node in nodes(ast.Attribute) if node.attr == "__class__"]
+        self.assertEqual(len(classes), len([node for name, node in nodes(ast.Attribute) if node.attr == "__name__"]))
+
+    def test_the_end_of_a_with_block(self):
+        for name, node in nodes(ast.FunctionDef):
+            if node.name == "__exit__":
+                [test] = node.body
+                self.assertEqual(ast.unparse(test.test), "kind is not None")
+                for row in test.body:
+                    self.assertIsInstance(row, ast.Assign)
+                    self.assertIsInstance(row.targets[0], ast.Attribute)
+                    self.assertIsInstance(row.value, ast.Attribute)
+
+    def test_what_the_library_gives_is_called_at_once(self):
+        words = {alias.name for name, node in nodes(ast.ImportFrom) if node.module in LIBRARY for alias in node.names}
+        taken = [arg for name, node in nodes(ast.Call) if getattr(node.func, "id", None) in ("list", "sorted", "tuple")
+                 for arg in node.args]
+        for name, node in nodes(ast.Name):
+            if node.id in words:
+                self.assertTrue(any(isinstance(arg, ast.Call) and arg.func is node for arg in taken), name)
+
+    def test_stars_stand_before_names_and_slices(self):
+        for name, node in nodes(ast.Starred):
+            self.assertIsInstance(node.value, (ast.Name, ast.Subscript), name)
